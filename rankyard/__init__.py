@@ -1,0 +1,1 @@
+"""Rankyard: things of which some stand under others."""
