@@ -28,9 +28,9 @@ def are_pairs_below(thing, count):
     return isinstance(thing, tuple) and all([is_pair_below(pair, count) for pair in thing])
 
 
-# Strictly, so that a doubled pair doesn't rise either.
-def is_rising(pairs):
-    return all([pairs[k] < pairs[k + 1] for k in range(len(pairs) - 1)])
+# Strictly, so that what is there twice doesn't rise either.
+def is_rising(things):
+    return all([things[k] < things[k + 1] for k in range(len(things) - 1)])
 
 
 # For each thing that stands under others a dict with these as keys, so that one is found without a walk.
@@ -41,6 +41,17 @@ def uppers_of(pairs):
             uppers[under] = {}
         uppers[under][over] = True
     return uppers
+
+
+# Likewise, for each thing under which others stand a dict with those.
+def lowers_of(pairs):
+    return uppers_of([(over, under) for under, over in pairs])
+
+
+# In a yard all that stands under a lower thing stands under a higher one too, and so does the lower one itself:
+# sorted by how many stand under it, each thing comes behind all that stands under it.
+def upwards(count, lowers):
+    return sorted(range(count), key=lambda thing: len(lowers.get(thing, {})))
 
 
 def none_under_itself(pairs):

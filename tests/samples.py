@@ -1,5 +1,7 @@
 """Yards and pairs for the tests, and plain second ways to tell what the program must answer."""
 
+import unittest
+from functools import lru_cache
 from itertools import combinations, permutations, product
 
 
@@ -103,3 +105,102 @@ def built_yards():
         pairs = told_upwards(dice, count, dice.below(25))
         yards.append((count, follows(range(count), pairs)))
     return yards
+
+
+def upward_yards(count):
+    """Every yard in which each thing stands under ones with higher numbers only: all there are, but for the names."""
+    choices = list(combinations(range(count), 2))
+    ways = [pairs for size in range(len(choices) + 1) for pairs in combinations(choices, size)]
+    return [(count, pairs) for pairs in ways if stands_as_a_yard(pairs)]
+
+
+def beside_itself(yard, times):
+    """The yard several times, side by side."""
+    count, pairs = yard
+    return (count * times, tuple((a + count * k, b + count * k) for k in range(times) for a, b in pairs))
+
+
+def named_anew(dice, yard):
+    return (yard[0], named_by(dice.shuffled(range(yard[0])), yard[1]))
+
+
+# The towers (0, 3) and (1, 2) part it; who puts 2 on 0 needs a third one.
+FIRST_TAKEN_MISLEADS = (4, ((0, 2), (0, 3), (1, 2)))
+# The towers (0, 1, 2) and (3, 4, 5) part it; who takes the tallest one, (0, 1, 4, 5), first needs two more.
+TALLEST_TAKEN_MISLEADS = (6, ((0, 1), (0, 2), (0, 4), (0, 5), (1, 2), (1, 4), (1, 5), (3, 4), (3, 5), (4, 5)))
+
+
+def misleading_yards():
+    yards = [beside_itself(FIRST_TAKEN_MISLEADS, times) for times in (1, 2, 3)]
+    yards += [beside_itself(TALLEST_TAKEN_MISLEADS, times) for times in (1, 2)]
+    dice = Dice(13)
+    return yards + [named_anew(dice, yard) for yard in yards for _ in range(8)]
+
+
+@lru_cache(maxsize=None)
+def sample_yards():
+    """All yards of up to four things, those of five under some names, and many of up to 12."""
+    dice = Dice(14)
+    yards = [(count, pairs) for count in (1, 2, 3, 4) for pairs in all_relations(count, False)
+             if stands_as_a_yard(pairs)]
+    yards += [named_anew(dice, yard) for yard in upward_yards(5)]
+    yards += built_yards() + misleading_yards()
+    for pairs_told in range(4, 34):
+        yards.append((12, follows(range(12), told_upwards(dice, 12, pairs_told))))
+    return tuple(yards)
+
+
+@lru_cache(maxsize=None)
+def parts_of(count):
+    """All ways to take some things, those of fewer first, those of equally many in the order of tuples."""
+    return tuple(part for size in range(count + 1) for part in combinations(range(count), size))
+
+
+@lru_cache(maxsize=None)
+def rows_by_trying(yard):
+    held = set(yard[1])
+    return tuple(part for part in parts_of(yard[0]) if part and not any(
+        (a, b) in held or (b, a) in held for a, b in combinations(part, 2)))
+
+
+@lru_cache(maxsize=None)
+def towers_by_trying(yard):
+    """All towers, each with its things in the order in which they stand."""
+    held = set(yard[1])
+    found = []
+    for part in parts_of(yard[0]):
+        if part and all((a, b) in held or (b, a) in held for a, b in combinations(part, 2)):
+            found.append(tuple(sorted(part, key=lambda thing: sum((other, thing) in held for other in part))))
+    return tuple(found)
+
+
+@lru_cache(maxsize=None)
+def heads_by_trying(yard):
+    return tuple(part for part in parts_of(yard[0]) if all(a in part for a, b in yard[1] if b in part))
+
+
+def is_tower(yard, thing):
+    steps = zip(thing, thing[1:])
+    return len(thing) > 0 and set(thing) <= set(range(yard[0])) and all(step in yard[1] for step in steps)
+
+
+def is_of_tuples_and_numbers(thing):
+    """Nothing but tuples and whole numbers, however deep: no list, no truth."""
+    if type(thing) is tuple:
+        return all(is_of_tuples_and_numbers(part) for part in thing)
+    return type(thing) is int
+
+
+class SameAgainCase(unittest.TestCase):
+    def assert_same_again(self, asked, *handed):
+        """What is handed in stays as it is; the same comes of it again, and of an equal thing made anew."""
+        written = repr(handed)
+        first = asked(*handed)
+        self.assertEqual(repr(handed), written)
+        self.assertEqual(asked(*handed), first)
+        self.assertEqual(asked(*made_anew(handed)), first)
+        self.assertEqual(repr(handed), written)
+
+
+def made_anew(thing):
+    return tuple([made_anew(part) for part in thing]) if isinstance(thing, tuple) else thing

@@ -25,6 +25,13 @@ splitlines startswith strip update upper values zfill bit_length
 """.split())
 WORDS = re.compile(r"\b(type|typing|typing_extensions|enum|Enum|IntEnum|StrEnum|Flag|IntFlag|Generic|Protocol|ABC|ABCMeta"
                    r"|namedtuple|NamedTuple|TypedDict|TYPE_CHECKING|abstractmethod)\b|dataclass|overload|contextmanager")
+# Where keywords stand at all, in the program as it is; own functions are called without.
+KEYWORDS = {
+    "sorted": {"key", "reverse"}, "min": {"key", "default"}, "max": {"key", "default"}, "sum": {"start"},
+    "enumerate": {"start"}, "zip": {"strict"},
+}
+WALKED = ("zip", "enumerate", "reversed", "range")
+TAKERS = ("list", "tuple", "dict", "sorted", "sum", "any", "all", "enumerate", "zip")
 NOWHERE = set("register mro elements open input version_info with_traceback add_note format format_map".split())
 
 
@@ -41,6 +48,20 @@ def bound_names(tree):
 def top_names(tree):
     names = [node.name for node in tree.body if isinstance(node, (ast.FunctionDef, ast.ClassDef))]
     return names + [node.targets[0].id for node in tree.body if isinstance(node, ast.Assign)]
+
+
+def local_names(tree):
+    """What parameters, loops and assignments within functions bind."""
+    for function in functions(tree):
+        for node in ast.walk(function):
+            if isinstance(node, ast.Name) and isinstance(node.ctx, ast.Store):
+                yield node.id
+            elif isinstance(node, ast.arg):
+                yield node.arg
+
+
+def called_name(node):
+    return node.func.id if isinstance(node, ast.Call) and isinstance(node.func, ast.Name) else None
 
 
 def functions(tree):
@@ -103,6 +124,44 @@ class LanguageTest(unittest.TestCase):
                     self.assertNotIn(node.id, NOWHERE, (name, node.lineno))
                     if hasattr(builtins, node.id):
                         self.assertIn(node.id, OWN_NAMES, (name, node.lineno))
+
+    def test_no_local_is_called_like_a_class_or_an_import(self):
+        for name, tree in self.trees.items():
+            taken = {node.name for node in ast.walk(tree) if isinstance(node, (ast.alias, ast.ClassDef))}
+            self.assertEqual(sorted(taken & set(local_names(tree))), [], name)
+
+    def test_is_stands_beside_none_and_truths(self):
+        for name, tree in self.trees.items():
+            for node in ast.walk(tree):
+                if isinstance(node, ast.Compare) and any(isinstance(op, (ast.Is, ast.IsNot)) for op in node.ops):
+                    sides = [side for side in [node.left] + node.comparators if isinstance(side, ast.Constant)]
+                    self.assertTrue(any(side.value in (None, True, False) for side in sides), (name, node.lineno))
+
+    def test_keywords(self):
+        for name, tree in self.trees.items():
+            for node in ast.walk(tree):
+                if isinstance(node, ast.Call) and node.keywords:
+                    used = {keyword.arg for keyword in node.keywords}
+                    self.assertLessEqual(used, KEYWORDS.get(called_name(node), set()), (name, node.lineno))
+
+    def test_walked_at_once(self):
+        for name, tree in self.trees.items():
+            walked = []
+            for node in ast.walk(tree):
+                if isinstance(node, (ast.For, ast.comprehension)):
+                    walked.append(node.iter)
+                elif called_name(node) in TAKERS:
+                    walked.extend(node.args if called_name(node) == "zip" else node.args[:1])
+            for node in ast.walk(tree):
+                if called_name(node) in WALKED or isinstance(node, ast.Call) and isinstance(
+                        node.func, ast.Attribute) and node.func.attr in ("items", "keys", "values"):
+                    self.assertIn(node, walked, (name, node.lineno))
+
+    def test_no_sets(self):
+        for name, tree in self.trees.items():
+            for node in ast.walk(tree):
+                self.assertNotIsInstance(node, ast.Set, name)
+                self.assertNotIn(called_name(node), ("set", "frozenset"), name)
 
     def test_methods(self):
         own = {node.name for tree in self.trees.values() for node in functions(tree)}

@@ -3,7 +3,9 @@ import inspect
 import unittest
 
 from rankyard.things import is_yard
-from samples import Dice, all_relations, all_yards, built_yards, named_by, parts_yard, stands_as_a_yard, tower
+from samples import (
+    Dice, all_relations, all_yards, built_yards, named_by, parts_yard, sample_yards, stands_as_a_yard, tower,
+)
 
 ODD_THINGS = [
     True, False, None, "", "0", "1", "ab", (), (0,), (0, 1), ((), ()), [], [0], [0, 1], [[], ()], -1, 13, 10**40,
@@ -32,7 +34,7 @@ class IsYardTest(unittest.TestCase):
         self.assertIs(is_yard(thing=(1, ())), True)
 
     def test_built_yards(self):
-        for yard in built_yards():
+        for yard in built_yards() + list(sample_yards()):
             self.assert_yard(yard)
 
     def test_yards_written_out(self):
