@@ -83,9 +83,10 @@ def parts_yard():
     return (12, tuple((a, b) for a in range(12) for b in range(12) if a != b and (b + 1) % (a + 1) == 0))
 
 
-def corners_yard():
-    """The subsets of three things, each under those that hold it."""
-    return (8, tuple((a, b) for a in range(8) for b in range(8) if a != b and a & b == a))
+def corners_yard(size=3):
+    """The subsets of three things, or as many as told, each under those that hold it."""
+    corners = range(2**size)
+    return (2**size, tuple((a, b) for a in corners for b in corners if a != b and a & b == a))
 
 
 def two_storeys():
@@ -177,6 +178,39 @@ def towers_by_trying(yard):
 @lru_cache(maxsize=None)
 def heads_by_trying(yard):
     return tuple(part for part in parts_of(yard[0]) if all(a in part for a, b in yard[1] if b in part))
+
+
+@lru_cache(maxsize=None)
+def lines_by_trying(yard):
+    """All lines in the order of tuples, out of all orders of at most seven things."""
+    return tuple(order for order in permutations(range(yard[0])) if goes_up(yard, order))
+
+
+def goes_up(yard, order):
+    place = {thing: k for k, thing in enumerate(order)}
+    return all(place[a] < place[b] for a, b in yard[1])
+
+
+def is_line(yard, thing):
+    return type(thing) is tuple and sorted(thing) == list(range(yard[0])) and goes_up(yard, thing)
+
+
+@lru_cache(maxsize=None)
+def few_things():
+    """Yards of which all orders can be gone through: those of the sample yards, and more of six and seven things."""
+    dice = Dice(15)
+    yards = [yard for yard in sample_yards() if yard[0] <= 7]
+    yards += [(count, follows(range(count), told_upwards(dice, count, size)))
+              for count in (6, 7) for size in range(1, 9) for _ in range(4)]
+    return tuple(yards)
+
+
+def weights_by_towers(yard):
+    """For each two things the towers from the one up to the other, those with an odd number of steps taken off."""
+    weights = {two: 0 for two in product(range(yard[0]), repeat=2)}
+    for found in towers_by_trying(yard):
+        weights[(found[0], found[-1])] += 1 if len(found) % 2 else -1
+    return weights
 
 
 def is_tower(yard, thing):
